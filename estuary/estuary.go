@@ -1,0 +1,96 @@
+// Package estuary: caches below caches, and a budget of staleness: see DOC.md.
+package estuary
+
+import (
+	"estuary/api"
+	"estuary/config"
+	"estuary/origin"
+	"estuary/wire"
+	"estuary/words"
+)
+
+// Tier has an origin, caches, and messages.
+type Tier struct {
+	config api.Config
+	origin *origin.Origin
+	clocks [api.MaxNodes]int // by node; the origin's is never asked
+}
+
+// Pack writes a message as bytes (P3).
+func Pack(m api.Message) (string, api.Errno) {
+	return wire.Pack(m)
+}
+
+// Unpack reads a message (P4).
+func Unpack(s string) (api.Message, api.Errno) {
+	return wire.Unpack(s)
+}
+
+// Right tells whether a configuration is right (P5).
+func Right(c api.Config) api.Errno {
+	if !config.Right(c) {
+		return api.ErrConfig
+	}
+	return api.OK
+}
+
+// New makes a tier (P5).
+func New(c api.Config) (*Tier, api.Errno) {
+	if err := Right(c); err != api.OK {
+		return nil, err
+	}
+	return &Tier{config: config.Copy(c), origin: origin.New()}, api.OK
+}
+
+// Write gives a key a value (P6).
+func (t *Tier) Write(key string, value string) api.Errno {
+	return t.origin.Write(key, value)
+}
+
+// Remove takes a key away (P6).
+func (t *Tier) Remove(key string) api.Errno {
+	return t.origin.Remove(key)
+}
+
+// Clock lets a cache's clock go on (P6).
+func (t *Tier) Clock(node int, reading int) api.Errno {
+	if !t.isCache(node) {
+		return api.ErrNode
+	}
+	if !words.Within(reading, 0, api.MaxTime) {
+		return api.ErrTime
+	}
+	t.clocks[node] = max(t.clocks[node], reading)
+	return api.OK
+}
+
+func (t *Tier) isCache(node int) bool {
+	return words.Within(node, 1, len(t.config.Parents)-1)
+}
+
+// Ask is a client's request (P7).
+func (t *Tier) Ask(node int, id int, key string) api.Errno { return api.OK }
+
+// Net tells the messages that are under way (P9).
+func (t *Tier) Net() []api.Message { return nil }
+
+// Deliver lets a message come (P9).
+func (t *Tier) Deliver(i int) api.Errno { return api.OK }
+
+// Lose lets a message be lost (P9).
+func (t *Tier) Lose(i int) api.Errno { return api.OK }
+
+// Double sends a message a second time (P9).
+func (t *Tier) Double(i int) api.Errno { return api.OK }
+
+// Timeout ends a fetch (P11).
+func (t *Tier) Timeout(node int, key string) api.Errno { return api.OK }
+
+// Crash lets a cache lose all (P11).
+func (t *Tier) Crash(node int) api.Errno { return api.OK }
+
+// Answers tells what clients were answered (P10).
+func (t *Tier) Answers() []api.Answer { return nil }
+
+// Entries tells a cache's entries (P10).
+func (t *Tier) Entries(node int) ([]api.Entry, api.Errno) { return nil, api.OK }
