@@ -2,7 +2,11 @@
 package estuary
 
 import (
+	"slices"
+	"strings"
+
 	"estuary/api"
+	"estuary/caches"
 	"estuary/config"
 	"estuary/origin"
 	"estuary/wire"
@@ -11,9 +15,14 @@ import (
 
 // Tier has an origin, caches, and messages.
 type Tier struct {
-	config api.Config
-	origin *origin.Origin
-	clocks [api.MaxNodes]int // by node; the origin's is never asked
+	config  api.Config
+	origin  *origin.Origin
+	clocks  [api.MaxNodes]int // by node; the origin's is never asked
+	entries *caches.Entries
+	fetches caches.Fetches
+	serial  int           // of the last fetch
+	net     []api.Message // under way, in the order in which they were sent
+	answers []api.Answer  // that Answers has not told yet
 }
 
 // Pack writes a message as bytes (P3).
@@ -39,7 +48,12 @@ func New(c api.Config) (*Tier, api.Errno) {
 	if err := Right(c); err != api.OK {
 		return nil, err
 	}
-	return &Tier{config: config.Copy(c), origin: origin.New()}, api.OK
+	return &Tier{
+		config:  config.Copy(c),
+		origin:  origin.New(),
+		entries: caches.NewEntries(c.Entries),
+		fetches: caches.Fetches{},
+	}, api.OK
 }
 
 // Write gives a key a value (P6).
@@ -69,13 +83,33 @@ func (t *Tier) isCache(node int) bool {
 }
 
 // Ask is a client's request (P7).
-func (t *Tier) Ask(node int, id int, key string) api.Errno { return api.OK }
+func (t *Tier) Ask(node int, id int, key string) api.Errno {
+	if !t.isCache(node) {
+		return api.ErrNode
+	}
+	if !words.IsKey(key) {
+		return api.ErrKey
+	}
+	// A clone, so that the tier does not hold on to a longer text that the caller cut the key from.
+	t.asked(caches.Place{Node: node, Key: strings.Clone(key)}, caches.Waiter{Id: id})
+	return api.OK
+}
 
 // Net tells the messages that are under way (P9).
-func (t *Tier) Net() []api.Message { return nil }
+func (t *Tier) Net() []api.Message {
+	return slices.Clone(t.net)
+}
 
 // Deliver lets a message come (P9).
-func (t *Tier) Deliver(i int) api.Errno { return api.OK }
+func (t *Tier) Deliver(i int) api.Errno {
+	if !words.Within(i, 0, len(t.net)-1) {
+		return api.ErrPlace
+	}
+	m := t.net[i]
+	t.net = slices.Delete(t.net, i, i+1)
+	t.arrive(m)
+	return api.OK
+}
 
 // Lose lets a message be lost (P9).
 func (t *Tier) Lose(i int) api.Errno { return api.OK }
@@ -90,7 +124,22 @@ func (t *Tier) Timeout(node int, key string) api.Errno { return api.OK }
 func (t *Tier) Crash(node int) api.Errno { return api.OK }
 
 // Answers tells what clients were answered (P10).
-func (t *Tier) Answers() []api.Answer { return nil }
+func (t *Tier) Answers() []api.Answer {
+	told := t.answers
+	t.answers = nil
+	return told
+}
 
 // Entries tells a cache's entries (P10).
-func (t *Tier) Entries(node int) ([]api.Entry, api.Errno) { return nil, api.OK }
+func (t *Tier) Entries(node int) ([]api.Entry, api.Errno) {
+	if !t.isCache(node) {
+		return nil, api.ErrNode
+	}
+	var list []api.Entry
+	for _, key := range t.entries.Keys(node) {
+		at := caches.Place{Node: node, Key: key}
+		e, _ := t.entries.At(at)
+		list = append(list, t.shown(at, e))
+	}
+	return list, api.OK
+}
