@@ -87,3 +87,11 @@ func (s *Entries) Use(at Place) {
 	copy(keys[1:i+1], keys[:i])
 	keys[0] = at.Key
 }
+
+// Clear takes all entries of a cache away.
+func (s *Entries) Clear(node int) {
+	for _, key := range s.used[node] {
+		delete(s.found, Place{node, key})
+	}
+	s.used[node] = nil
+}

@@ -146,3 +146,26 @@ func TestKeysAreFresh(t *testing.T) {
 	s.Store(Place{1, "b"}, Entry{})
 	mustHaveKeys(t, s, 1, "b", "a")
 }
+
+func TestClearTakesTheEntriesOfOneCache(t *testing.T) {
+	s := NewEntries(2)
+	for _, key := range []string{"a", "b"} {
+		s.Store(Place{1, key}, Entry{Version: 1})
+		s.Store(Place{2, key}, Entry{Version: 2})
+	}
+	before := s.Keys(1)
+	s.Clear(1)
+	mustHaveKeys(t, s, 1)
+	mustHaveKeys(t, s, 2, "b", "a")
+	s.Clear(1) // there are none
+	s.Clear(3)
+	mustHaveKeys(t, s, 1)
+	for _, key := range []string{"c", "a", "d"} { // as much room as at first, and no more
+		s.Store(Place{1, key}, Entry{Version: 3})
+	}
+	mustHaveKeys(t, s, 1, "d", "a")
+	mustHaveKeys(t, s, 2, "b", "a")
+	if !slices.Equal(before, []string{"b", "a"}) {
+		t.Errorf("P2: what came out became %q", before)
+	}
+}

@@ -26,3 +26,12 @@ func (f Fetches) Waiting(node int) int {
 	}
 	return n
 }
+
+// Clear lets all fetches of a cache be over, and nobody be answered.
+func (f Fetches) Clear(node int) {
+	for at := range f {
+		if at.Node == node {
+			delete(f, at)
+		}
+	}
+}

@@ -21,3 +21,22 @@ func TestWaitingCountsAllFetchesOfACache(t *testing.T) {
 	want(1, 1)
 	want(2, 4)
 }
+
+func TestClearEndsTheFetchesOfOneCache(t *testing.T) {
+	f := Fetches{}
+	for _, key := range []string{"a", "b", "c"} {
+		for node := 1; node <= 3; node++ {
+			f[Place{node, key}] = Fetch{Serial: node, Waiters: []Waiter{{Id: 1}}}
+		}
+	}
+	f.Clear(2)
+	f.Clear(2) // there are none
+	for node, want := range []int{0, 3, 0, 3} {
+		if got := f.Waiting(node); got != want {
+			t.Errorf("P11: %d wait at %d, want %d", got, node, want)
+		}
+	}
+	if len(f) != 6 {
+		t.Errorf("P11: %d fetches are left, want 6", len(f))
+	}
+}

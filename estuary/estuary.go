@@ -84,15 +84,24 @@ func (t *Tier) isCache(node int) bool {
 
 // Ask is a client's request (P7).
 func (t *Tier) Ask(node int, id int, key string) api.Errno {
+	at, err := t.place(node, key)
+	if err != api.OK {
+		return err
+	}
+	t.asked(at, caches.Waiter{Id: id})
+	return api.OK
+}
+
+// place is where a cache has what it has of a key.
+func (t *Tier) place(node int, key string) (caches.Place, api.Errno) {
 	if !t.isCache(node) {
-		return api.ErrNode
+		return caches.Place{}, api.ErrNode
 	}
 	if !words.IsKey(key) {
-		return api.ErrKey
+		return caches.Place{}, api.ErrKey
 	}
 	// A clone, so that the tier does not hold on to a longer text that the caller cut the key from.
-	t.asked(caches.Place{Node: node, Key: strings.Clone(key)}, caches.Waiter{Id: id})
-	return api.OK
+	return caches.Place{Node: node, Key: strings.Clone(key)}, api.OK
 }
 
 // Net tells the messages that are under way (P9).
@@ -102,26 +111,56 @@ func (t *Tier) Net() []api.Message {
 
 // Deliver lets a message come (P9).
 func (t *Tier) Deliver(i int) api.Errno {
-	if !words.Within(i, 0, len(t.net)-1) {
+	if !t.isSent(i) {
 		return api.ErrPlace
 	}
-	m := t.net[i]
-	t.net = slices.Delete(t.net, i, i+1)
-	t.arrive(m)
+	t.arrive(t.take(i))
 	return api.OK
 }
 
 // Lose lets a message be lost (P9).
-func (t *Tier) Lose(i int) api.Errno { return api.OK }
+func (t *Tier) Lose(i int) api.Errno {
+	if !t.isSent(i) {
+		return api.ErrPlace
+	}
+	t.take(i)
+	return api.OK
+}
 
 // Double sends a message a second time (P9).
-func (t *Tier) Double(i int) api.Errno { return api.OK }
+func (t *Tier) Double(i int) api.Errno {
+	if !t.isSent(i) {
+		return api.ErrPlace
+	}
+	if len(t.net) >= api.MaxNet {
+		return api.ErrFull
+	}
+	t.send(t.net[i])
+	return api.OK
+}
 
 // Timeout ends a fetch (P11).
-func (t *Tier) Timeout(node int, key string) api.Errno { return api.OK }
+func (t *Tier) Timeout(node int, key string) api.Errno {
+	at, err := t.place(node, key)
+	if err != api.OK {
+		return err
+	}
+	if _, has := t.fetches[at]; !has {
+		return api.ErrNone
+	}
+	t.refuseAll(at)
+	return api.OK
+}
 
 // Crash lets a cache lose all (P11).
-func (t *Tier) Crash(node int) api.Errno { return api.OK }
+func (t *Tier) Crash(node int) api.Errno {
+	if !t.isCache(node) {
+		return api.ErrNode
+	}
+	t.entries.Clear(node)
+	t.fetches.Clear(node)
+	return api.OK
+}
 
 // Answers tells what clients were answered (P10).
 func (t *Tier) Answers() []api.Answer {

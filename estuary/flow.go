@@ -1,8 +1,11 @@
 package estuary
 
 import (
+	"slices"
+
 	"estuary/api"
 	"estuary/caches"
+	"estuary/words"
 )
 
 const (
@@ -152,6 +155,17 @@ func (t *Tier) refuse(at caches.Place, who caches.Waiter) {
 
 func (t *Tier) send(m api.Message) {
 	t.net = append(t.net, m)
+}
+
+func (t *Tier) isSent(i int) bool {
+	return words.Within(i, 0, len(t.net)-1)
+}
+
+// take takes a message out of the net.
+func (t *Tier) take(i int) api.Message {
+	m := t.net[i]
+	t.net = slices.Delete(t.net, i, i+1)
+	return m
 }
 
 // shown is an entry as others see it now.
